@@ -1,0 +1,1 @@
+"""Leastmaker: the least program that does what is wished, at every input."""

@@ -1,0 +1,157 @@
+"""What the document says of programs and texts, once more and as plainly as can be, for the tests.
+
+Nothing here is taken from the package, and nothing here minds how deep a program is.
+"""
+
+NUMBER_WORDS = ("in", "num", "plus")
+PARTS = {
+    "in": "", "num": "", "yes": "", "no": "", "plus": "A", "least": "AB", "most": "AB",
+    "atmost": "AB", "not": "P", "both": "PQ", "either": "PQ", "if": "PXY",
+}
+TELL_NUMBERS = ("num", "plus", "least", "most")
+
+# For each word a program, its kind by the kinds num, truth, num, and its text.
+KINDS = ("num", "truth", "num")
+SAMPLES = [
+    (("in", 0), "num", "in 0"),
+    (("in", 1), "truth", "in 1"),
+    (("in", 2), "num", "in 2"),
+    (("num", 0), "num", "num 0"),
+    (("num", -7), "num", "num -7"),
+    (("num", 1000), "num", "num 1000"),
+    (("yes",), "truth", "yes"),
+    (("no",), "truth", "no"),
+    (("plus", 3, ("in", 0)), "num", "plus 3 in 0"),
+    (("plus", -1, ("num", 4)), "num", "plus -1 num 4"),
+    (("plus", 0, ("plus", 10, ("in", 2))), "num", "plus 0 plus 10 in 2"),
+    (("least", ("in", 0), ("in", 2)), "num", "least in 0 in 2"),
+    (("most", ("num", 1), ("in", 0)), "num", "most num 1 in 0"),
+    (("atmost", ("in", 2), ("num", 0)), "truth", "atmost in 2 num 0"),
+    (("not", ("in", 1)), "truth", "not in 1"),
+    (("both", ("yes",), ("in", 1)), "truth", "both yes in 1"),
+    (("either", ("no",), ("not", ("in", 1))), "truth", "either no not in 1"),
+    (("if", ("in", 1), ("in", 0), ("in", 2)), "num", "if in 1 in 0 in 2"),
+    (("if", ("yes",), ("in", 1), ("no",)), "truth", "if yes in 1 no"),
+    (("if", ("if", ("no",), ("in", 1), ("yes",)),
+      ("if", ("in", 1), ("least", ("in", 0), ("num", 5)), ("in", 2)), ("plus", 2, ("in", 0))),
+     "num", "if if no in 1 yes if in 1 least in 0 num 5 in 2 plus 2 in 0"),
+]
+
+# None of these is a tuple of a program's form.
+NO_FORMS = [
+    None, True, False, 0, 7, "", "in", "yes", "in 0", (), (None,), (0,), (True,), ((),), ("",), ("In", 0), ("YES",),
+    ("nor", ("yes",)), ("num",), ("in",), ("in", True), ("in", False), ("in", None), ("in", "0"), ("in", (0,)),
+    ("in", 0, 0), ("num", True), ("num", False), ("num", "1"), ("num", None), ("num", ("num", 1)), ("num", 1, 1),
+    ("yes", 1), ("yes", ()), ("no", None), ("plus",), ("plus", 1), ("plus", True, ("in", 0)),
+    ("plus", ("in", 0), 1), ("plus", None, ("in", 0)), ("plus", 1, ("in", 0), ("in", 0)), ("least", ("in", 0)),
+    ("most", ("in", 0), ("in", 0), ("in", 0)), ("atmost",), ("not",), ("not", ("yes",), ("yes",)),
+    ("both", ("yes",)), ("either", ("yes",), ("no",), ("no",)), ("if", ("yes",), ("num", 1)),
+    ("if", ("yes",), ("num", 1), ("num", 1), ("num", 1)), (("yes",),), (("in", 0), 1), (("yes",), ("yes",)),
+]
+
+
+def is_formed(thing):
+    if not isinstance(thing, tuple) or not thing or not isinstance(thing[0], str) or thing[0] not in PARTS:
+        return False
+    fixed = 2 if thing[0] in NUMBER_WORDS else 1
+    return len(thing) == fixed + len(PARTS[thing[0]]) and (fixed == 1 or type(thing[1]) is int)
+
+
+def parts(thing):
+    if not is_formed(thing):
+        return ()
+    return thing[len(thing) - len(PARTS[thing[0]]):]
+
+
+def knots(thing):
+    return [thing] + [knot for part in parts(thing) for knot in knots(part)]
+
+
+def own_kind(kinds, program):
+    if program[0] == "in":
+        return kinds[program[1]]
+    if program[0] == "if":
+        return own_kind(kinds, program[2])
+    return "num" if program[0] in TELL_NUMBERS else "truth"
+
+
+def fits(kinds, program):
+    due = {"A": "num", "B": "num", "P": "truth", "Q": "truth"}
+    have = [own_kind(kinds, part) for part in parts(program)]
+    if program[0] == "if":
+        due["X"] = due["Y"] = have[1]
+    return have == [due[letter] for letter in PARTS[program[0]]]
+
+
+def kind_or_refusal(kinds, program):
+    """The kind, or (word, at)."""
+    every = knots(program)
+    looks = (
+        ("form", lambda knot: is_formed(knot)),
+        ("input", lambda knot: knot[0] != "in" or knot[1] in range(len(kinds))),
+        ("kind", lambda knot: fits(kinds, knot)),
+    )
+    for word, is_right in looks:
+        wrong = [at for at, knot in enumerate(every) if not is_right(knot)]
+        if wrong:
+            return word, wrong[0]
+    return own_kind(kinds, program)
+
+
+def put(program, some):
+    if program[0] == "in":
+        return some[program[1]]
+    inner = parts(program)
+    return program[:len(program) - len(inner)] + tuple(put(part, some) for part in inner)
+
+
+def text(program):
+    return " ".join(str(thing) for knot in knots(program) for thing in knot if not isinstance(thing, tuple))
+
+
+def first_program(words):
+    """(program, words behind it), or None where the words begin with no program."""
+    if not words or words[0] not in PARTS:
+        return None
+    program, words = words[:1], words[1:]
+    if program[0] in NUMBER_WORDS:
+        number = words[0] if words else ""
+        if number not in NUMBER_TEXTS or program[0] == "in" and number[0] == "-":
+            return None
+        program, words = program + (NUMBER_TEXTS[number],), words[1:]
+    for letter in PARTS[program[0]]:
+        found = first_program(words)
+        if found is None:
+            return None
+        program, words = program + (found[0],), found[1]
+    return program, words
+
+
+NUMBER_TEXTS = {str(number): number for number in [*range(-1000, 1001), 999999, -999999]}
+
+
+def whole_program(words):
+    """The program with these words, at most 60 knots, or None. Of numbers it knows NUMBER_TEXTS."""
+    found = first_program(tuple(words))
+    if found is None or found[1] or len(knots(found[0])) > 60:
+        return None
+    return found[0]
+
+
+def can_go_on(words):
+    """Whether some words behind these, of some hundred knots perhaps, make a program's text of them."""
+    for start in ([], ["0"]):
+        for many in range(2 * len(words) + 2):
+            found = first_program((*words, *start, *["yes"] * many))
+            if found is not None and not found[1]:
+                return True
+    return False
+
+
+def program_or_refusal(words):
+    """The program, or the number of the word at which it is refused, for words of less than 61 knots."""
+    program = whole_program(words)
+    if program is not None:
+        return program
+    wrong = [at for at in range(len(words)) if not can_go_on(words[:at + 1])]
+    return wrong[0] if wrong else len(words)
