@@ -1,6 +1,6 @@
 """What the document says of programs and texts, once more and as plainly as can be, for the tests.
 
-Nothing here is taken from the package, and nothing here minds how deep a program is.
+Nothing here is taken from the package. It calls itself, so it is for programs of some hundreds of levels at most.
 """
 
 NUMBER_WORDS = ("in", "num", "plus")
