@@ -155,3 +155,98 @@ def program_or_refusal(words):
         return program
     wrong = [at for at in range(len(words)) if not can_go_on(words[:at + 1])]
     return wrong[0] if wrong else len(words)
+
+
+def value(program, inputs):
+    word, inner = program[0], [value(part, inputs) for part in parts(program)]
+    if word in ("in", "num", "plus"):
+        return {"in": lambda: inputs[program[1]], "num": lambda: program[1],
+                "plus": lambda: program[1] + inner[0]}[word]()
+    return {
+        "yes": lambda: True, "no": lambda: False,
+        "least": lambda a, b: b if b < a else a, "most": lambda a, b: b if a < b else a,
+        "atmost": lambda a, b: not b < a, "not": lambda p: p is False,
+        "both": lambda p, q: [p, q] == [True, True], "either": lambda p, q: [p, q] != [False, False],
+        "if": lambda p, a, b: {True: a, False: b}[p],
+    }[word](*inner)
+
+
+def weight(program, stock):
+    found = [standing(knot, stock) for knot in knots(program)]
+    return None if None in found else sum(load for rank, load in found)
+
+
+def ranks(program, stock):
+    return tuple(standing(knot, stock)[0] for knot in knots(program))
+
+
+def standing(knot, stock):
+    """(rank, weight), the rank as a number when all that may stand are counted on, from many inputs; or None."""
+    table = {("in", k): (k, 1) for k in range(10)}
+    for part, word in zip(stock, ("num", "plus", None)):
+        for key, load in part:
+            table[key if word is None else (word, key)] = (len(table), load)
+    return table.get(knot[0] if knot[0] not in NUMBER_WORDS else knot[:2])
+
+
+def number(numbers, i):
+    return 0 if i == -1 else numbers[i]
+
+
+def keeps(rows, numbers):
+    return all(number(numbers, i) - number(numbers, j) <= c for i, j, c in rows)
+
+
+def distances(many, rows):
+    """The least c for each pair, by going through each place in between; None where no numbers keep the rows."""
+    far = {(i, j): 0 if i == j else float("inf") for i in range(-1, many) for j in range(-1, many)}
+    for i, j, c in rows:
+        far[i, j] = min(far[i, j], c)
+    for k in range(-1, many):
+        for i in range(-1, many):
+            for j in range(-1, many):
+                far[i, j] = min(far[i, j], far[i, k] + far[k, j])
+    return None if any(far[i, i] < 0 for i in range(-1, many)) else far
+
+
+def is_ring(rows, ring):
+    """Whether the numbers, at least one and none twice, are of rows that go round and come together below 0."""
+    if not ring or sorted(set(ring)) != sorted(ring) or not set(ring) <= set(range(len(rows))):
+        return False
+    ends = [rows[at][1] for at in ring]
+    return [rows[at][0] for at in ring] == ends[-1:] + ends[:-1] and sum(rows[at][2] for at in ring) < 0
+
+
+def tree_value(tree, inputs):
+    if tree[0] == "row":
+        word, i, j, c, yes, no = tree
+        return tree_value(yes if number(inputs, i) <= number(inputs, j) + c else no, inputs)
+    if tree[0] == "truth":
+        word, k, yes, no = tree
+        return tree_value(yes if inputs[k] else no, inputs)
+    word, end = tree
+    return end if isinstance(end, bool) else number(inputs, end[0]) + end[1]
+
+
+def tree_knots(tree):
+    return [tree] + [knot for part in tree[1:] if isinstance(part, tuple) and part[0] in ("row", "truth", "end")
+                     for knot in tree_knots(part)]
+
+
+def is_tree(kinds, kind, thing):
+    """Whether this is of a tree's form, asks and tells but what is there, and tells this kind."""
+    def is_place(i):
+        return type(i) is int and (i == -1 or i in range(len(kinds)) and kinds[i] == "num")
+    if not isinstance(thing, tuple) or not thing:
+        return False
+    if thing[0] == "end" and len(thing) == 2:
+        end = thing[1]
+        if kind == "truth":
+            return end is True or end is False
+        return type(end) is tuple and len(end) == 2 and is_place(end[0]) and type(end[1]) is int
+    if thing[0] == "row" and len(thing) == 6:
+        fits_here = is_place(thing[1]) and is_place(thing[2]) and type(thing[3]) is int
+    else:
+        fits_here = thing[0] == "truth" and len(thing) == 4 and type(thing[1]) is int \
+            and thing[1] in range(len(kinds)) and kinds[thing[1]] == "truth"
+    return fits_here and is_tree(kinds, kind, thing[-2]) and is_tree(kinds, kind, thing[-1])
