@@ -3,6 +3,8 @@
 import itertools
 import random
 
+KINDS = [("num",) * 3, ("num", "truth", "num"), ("truth", "num", "truth"), ("num", "num"), ("num",), ("truth",), ()]
+
 
 def drawer(seed):
     return random.Random(seed)
@@ -74,3 +76,11 @@ def near(draw, kinds, offsets, many=40):
                 chosen.append(draw.random() < 0.5)
         told.append(tuple(chosen))
     return told
+
+
+def wishes(seed, turns, fars=(1, 3, 1000)):
+    """So many wishes, each as (drawer, head, wish)."""
+    draw = drawer(seed)
+    for turn in range(turns):
+        kinds, kind = draw.choice(KINDS), draw.choice(("num", "truth"))
+        yield draw, (kinds, kind), program(draw, (*kinds, kind), "truth", draw.randint(3, 24), far=draw.choice(fars))

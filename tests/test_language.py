@@ -96,6 +96,34 @@ class Language(unittest.TestCase):
                 for alias in node.names:
                     self.assertTrue(node.module == "__future__" or alias.name in known, place)
 
+    def test_no_two_files_import_from_each_other(self):
+        ahead = {name: {node.module[11:] + ".py" for node in ast.walk(tree) if isinstance(node, ast.ImportFrom)}
+                 for name, tree in self.trees.items()}
+        while ahead:
+            free = [name for name, others in ahead.items() if not others & set(ahead)]
+            self.assertNotEqual(free, [], sorted(ahead))
+            for name in free:
+                del ahead[name]
+
+    def test_nothing_has_the_name_of_an_import(self):
+        for name, tree in self.trees.items():
+            imported = {alias.name for node in ast.walk(tree) if isinstance(node, ast.ImportFrom)
+                        for alias in node.names}
+            self.assertEqual(imported & set(bound_names(tree)), set(), name)
+
+    def test_iterated_at_once(self):
+        for place, node in self.each_node():
+            self.assertNotIsInstance(node, ast.GeneratorExp, place)
+            if isinstance(node, (ast.Assign, ast.Return)) and isinstance(node.value, ast.Call):
+                called = node.value.func
+                name = called.id if isinstance(called, ast.Name) else getattr(called, "attr", None)
+                self.assertNotIn(name, ("range", "zip", "enumerate", "reversed", "items", "keys", "values"), place)
+
+    def test_no_method_has_the_name_of_a_field(self):
+        methods = {node.name for place, whole in self.each_node() if isinstance(whole, ast.ClassDef)
+                   for node in whole.body if isinstance(node, ast.FunctionDef)}
+        self.assertEqual(methods & self.fields, set())
+
     def test_nodes(self):
         for place, node in self.each_node():
             self.assertNotIsInstance(node, BARRED_NODES, place)
