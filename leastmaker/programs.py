@@ -83,6 +83,11 @@ def is_whole(thing):
     return isinstance(thing, int) and not isinstance(thing, bool)
 
 
+def has_kind(kind, thing):
+    """Whether this is a whole number or a truth, as the kind says."""
+    return is_whole(thing) if kind == "num" else isinstance(thing, bool)
+
+
 def has_form(thing):
     """Whether this is a tuple of a program's form, whatever its parts are."""
     # A word that is no text is never looked up: a deep tuple makes no key.

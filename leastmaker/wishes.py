@@ -2,6 +2,7 @@
 
 from leastmaker.always import always
 from leastmaker.carving import carved
+from leastmaker.meaning import value
 from leastmaker.programs import put
 
 
@@ -33,6 +34,17 @@ def anyhow(head, wish):
         return ("void", paper)
     # To answer whether yes does is to answer yes just where it does, and no elsewhere, where that does then.
     return ("does", yes_does)
+
+
+def row_does(wish, points, row, found):
+    """Whether the row's answers do what the wish says at all points; what is found of each is kept in found."""
+    for at, answer in enumerate(row):
+        # Few answers stand in many rows.
+        if (at, answer) not in found:
+            found[at, answer] = value(wish, (*points[at], answer))
+        if not found[at, answer]:
+            return False
+    return True
 
 
 def plain_inputs(many):

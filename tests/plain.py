@@ -250,3 +250,42 @@ def is_tree(kinds, kind, thing):
         fits_here = thing[0] == "truth" and len(thing) == 4 and type(thing[1]) is int \
             and thing[1] in range(len(kinds)) and kinds[thing[1]] == "truth"
     return fits_here and is_tree(kinds, kind, thing[-2]) and is_tree(kinds, kind, thing[-1])
+
+
+def programs_of(kinds, stock, most):
+    """(weight, kind, program) of every program of the stock to this weight, in their order."""
+    found = {}
+    for load in range(1, most + 1):
+        for kind in ("num", "truth"):
+            found[kind, load] = [("in", k) for k, own in enumerate(kinds) if own == kind and load == 1]
+            if kind == "num":
+                found[kind, load] += [("num", c) for c, own in stock[0] if own == load]
+                found[kind, load] += [("plus", c, part) for c, own in stock[1]
+                                      for part in found.get(("num", load - own), [])]
+            for word, own in stock[2]:
+                if word == "if" or (word in TELL_NUMBERS) == (kind == "num"):
+                    due = [{"A": "num", "B": "num", "P": "truth", "Q": "truth"}.get(letter, kind)
+                           for letter in PARTS[word]]
+                    found[kind, load] += [(word, *inner) for inner in parts_of(found, due, load - own)]
+    every = [(load, kind, program) for (kind, load), programs in found.items() for program in programs]
+    return sorted(every, key=lambda one: (one[0], ranks(one[2], stock)))
+
+
+def parts_of(found, due, left):
+    """All tuples of programs of the kinds due, of which the weights together are what is left."""
+    if not due:
+        return [()] if left == 0 else []
+    return [(part, *more) for load in range(1, left + 1) for part in found.get((due[0], load), [])
+            for more in parts_of(found, due[1:], left - load)]
+
+
+def row(program, points):
+    return tuple(value(program, point) for point in points)
+
+
+def shelf(kinds, points, stock, most):
+    """The shelf, by going through every program."""
+    first = {}
+    for load, kind, program in programs_of(kinds, stock, most):
+        first.setdefault((kind, row(program, points)), (load, kind, row(program, points), program))
+    return tuple(first.values())

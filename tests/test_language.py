@@ -119,6 +119,26 @@ class Language(unittest.TestCase):
                 name = called.id if isinstance(called, ast.Name) else getattr(called, "attr", None)
                 self.assertNotIn(name, ("range", "zip", "enumerate", "reversed", "items", "keys", "values"), place)
 
+    def test_generators_are_iterated_at_once(self):
+        generators = {whole.name for place, whole in self.each_node() if isinstance(whole, ast.FunctionDef)
+                      and any(isinstance(node, (ast.Yield, ast.YieldFrom)) for node in ast.walk(whole))}
+        iterated = [node.iter for place, node in self.each_node() if isinstance(node, (ast.For, ast.comprehension))]
+        for place, node in self.each_node():
+            if isinstance(node, ast.Call) and isinstance(node.func, ast.Name) and node.func.id in generators:
+                self.assertIn(node, iterated, place)
+                for handed in node.args:
+                    self.assertTrue(isinstance(handed, ast.Name) or ast.unparse(handed) == "()", place)
+
+    def test_ends_of_withs(self):
+        for place, whole in self.each_node():
+            if isinstance(whole, ast.FunctionDef) and whole.name == "__exit__":
+                self.assertEqual(ast.unparse(whole.args), "self, kind, value, trace")
+                for node in ast.walk(whole):
+                    if isinstance(node, ast.Call):
+                        self.assertRegex(ast.unparse(node), r"^self\.[a-z]+\.(append\(self\.[a-z]+|clear\()\)$", place)
+                    if isinstance(node, ast.stmt) and node != whole:
+                        self.assertIsInstance(node, (ast.If, ast.Expr, ast.Pass), place)
+
     def test_no_method_has_the_name_of_a_field(self):
         methods = {node.name for place, whole in self.each_node() if isinstance(whole, ast.ClassDef)
                    for node in whole.body if isinstance(node, ast.FunctionDef)}
