@@ -4,7 +4,7 @@ from leastmaker.always import sure_holds
 from leastmaker.programs import kind_of
 from leastmaker.shelves import MOST, shelf_holds
 from leastmaker.stocks import STOCK, weight
-from leastmaker.wishes import met_by, row_does
+from leastmaker.wishes import failing_place, met_by
 
 
 def answer_holds(head, wish, answer, *, stock=STOCK, most=MOST):
@@ -26,4 +26,5 @@ def shelf_shows(head, wish, points, shelf, stock, most):
     if not shelf_holds(head[0], points, shelf, stock=stock, most=most):
         return False
     found = {}
-    return not any([kind == head[1] and row_does(wish, points, row, found) for load, kind, row, program in shelf])
+    return all([kind != head[1] or failing_place(wish, points, row, found) is not None
+                for load, kind, row, program in shelf])

@@ -6,6 +6,7 @@ parts, what has the same first part in that of the second ones, and so on.
 """
 
 from leastmaker.programs import FORMS
+from leastmaker.rows import knot_row
 
 
 class Pile:
@@ -90,72 +91,6 @@ def made_ranks(rank, parts):
     return told
 
 
-def row_in(top, rows, points):
-    return tuple([point[top[1]] for point in points])
-
-
-def row_num(top, rows, points):
-    return (top[1],) * len(points)
-
-
-def row_yes(top, rows, points):
-    return (True,) * len(points)
-
-
-def row_no(top, rows, points):
-    return (False,) * len(points)
-
-
-def row_plus(top, rows, points):
-    step = top[1]
-    return tuple([a + step for a in rows[0]])
-
-
-def row_least(top, rows, points):
-    return tuple([a if a <= b else b for a, b in zip(rows[0], rows[1])])
-
-
-def row_most(top, rows, points):
-    return tuple([b if a <= b else a for a, b in zip(rows[0], rows[1])])
-
-
-def row_atmost(top, rows, points):
-    return tuple([a <= b for a, b in zip(rows[0], rows[1])])
-
-
-def row_not(top, rows, points):
-    return tuple([not p for p in rows[0]])
-
-
-def row_both(top, rows, points):
-    return tuple([p and q for p, q in zip(rows[0], rows[1])])
-
-
-def row_either(top, rows, points):
-    return tuple([p or q for p, q in zip(rows[0], rows[1])])
-
-
-def row_if(top, rows, points):
-    return tuple([a if p else b for p, a, b in zip(rows[0], rows[1], rows[2])])
-
-
-ROWS = {
-    "in": row_in,
-    "num": row_num,
-    "yes": row_yes,
-    "no": row_no,
-    "plus": row_plus,
-    "least": row_least,
-    "most": row_most,
-    "atmost": row_atmost,
-    "not": row_not,
-    "both": row_both,
-    "either": row_either,
-    "if": row_if,
-}
-
-
 def made_row(top, parts, points):
     """The row of what is made, at these points."""
-    work = ROWS[top[0]]
-    return work(top, [entry[2] for entry in parts], points)
+    return knot_row(top, [entry[2] for entry in parts], points)

@@ -1,8 +1,8 @@
 """Shelves: for each row that programs of a stock have at some points the first one that has it."""
 
 from leastmaker.growth import Pile, made_kind, made_program, made_ranks, made_row, makings, tops_of
-from leastmaker.meaning import value
-from leastmaker.programs import has_kind, is_whole, kind_of
+from leastmaker.programs import has_kind, is_whole, kind_of, knots, many_parts, taken
+from leastmaker.rows import knot_row
 from leastmaker.stocks import STOCK, weight
 
 MOST = 5
@@ -10,7 +10,11 @@ MOST = 5
 
 def row_of(program, points):
     """What the program tells at each point."""
-    return tuple([value(program, point) for point in points])
+    ready = []
+    for knot in reversed(knots(program)):
+        parts = taken(ready, many_parts(knot[0]))
+        ready.append(knot_row(knot, parts, points))
+    return ready[0]
 
 
 def shelf_of(kinds, points, *, stock=STOCK, most=MOST):

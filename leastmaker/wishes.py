@@ -36,15 +36,23 @@ def anyhow(head, wish):
     return ("does", yes_does)
 
 
-def row_does(wish, points, row, found):
-    """Whether the row's answers do what the wish says at all points; what is found of each is kept in found."""
+def failing_place(wish, points, row, found):
+    """The first place of the row whose answer doesn't do what the wish says at its point, None where all do.
+
+    What is found of an answer is kept in found, by its place and itself.
+    """
     for at, answer in enumerate(row):
-        # Few answers stand in many rows.
-        if (at, answer) not in found:
-            found[at, answer] = value(wish, (*points[at], answer))
-        if not found[at, answer]:
-            return False
-    return True
+        if not answer_does(wish, points, at, answer, found):
+            return at
+    return None
+
+
+def answer_does(wish, points, at, answer, found):
+    """Whether the answer does what the wish says at the point with this number; looked up, if found already."""
+    # Few answers stand in many rows.
+    if (at, answer) not in found:
+        found[at, answer] = value(wish, (*points[at], answer))
+    return found[at, answer]
 
 
 def plain_inputs(many):

@@ -226,6 +226,16 @@ class Made(Checks):
         self.check_text(TWO, read("atmost plus 1000 most in 0 in 1 in 2"), "plus 1000 most in 0 in 1",
                         stock=(((1000, 1),), ((1000, 1), (-1000, 1)), (("most", 1), ("if", 1), ("atmost", 1))))
 
+    def test_wishes_that_fail_at_few_inputs(self):
+        # Unlike each input: where one program fails, most others do what is wished.
+        unlike = [("not", is_wish(THREE, f"in {k}")) for k in range(3)]
+        wish = ("both", unlike[0], ("both", unlike[1], unlike[2]))
+        self.check_text(THREE, wish, "plus 1 most in 0 most in 1 in 2", most=6)
+        self.check_text(THREE, wish, None, most=5)
+        stock = (((0, 1), (1000, 1), (-7, 1)), ((1000, 1), (-3, 1)), (("least", 1), ("yes", 1), ("if", 1)))
+        self.check_text(THREE, wish, "plus -3 least in 0 least in 1 in 2", stock=stock, most=6)
+        self.check_text(TWO, ("not", is_wish(TWO, "in 1")), "plus 1 in 1")
+
     def test_whatever_was_asked_between(self):
         first = made(TWO, MOST_WISH)
         made(TWO, read("atmost in 0 in 2"), stock=TURNED)
@@ -289,6 +299,7 @@ class Rounds(Checks):
         self.check(ONE, is_wish(ONE, "plus 1 plus 1 in 0"))
         self.check(ONE, is_wish(ONE, "plus 9 in 0"), most=4)
         self.check(ONE, is_wish(ONE, "most in 0 num 0"), stock=CHOICES)
+        self.check(TWO, ("both", ("not", is_wish(TWO, "in 0")), ("not", is_wish(TWO, "in 1"))), most=4)
         self.check((("truth", "truth"), "truth"), is_wish((("truth", "truth"), "truth"), "both in 0 in 1"),
                    stock=ALL_WORDS, most=4)
 
