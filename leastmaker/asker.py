@@ -75,4 +75,4 @@ def greatest_share(candidates, at):
     counts = {}
     for row, program in candidates:
         counts[row[at]] = counts.get(row[at], 0) + 1
-    return max(counts.values(), default=0)
+    return max(list(counts.values()), default=0)
